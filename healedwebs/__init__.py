@@ -1,0 +1,1 @@
+"""Healed webs: places come and die, and those who are left tie anew."""

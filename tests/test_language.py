@@ -1,0 +1,159 @@
+"""The rules of the language that can be seen in the files of the package."""
+
+import ast
+import builtins
+import pathlib
+import unittest
+
+FOLDER = pathlib.Path(__file__).resolve().parent.parent / 'healedwebs'
+
+STATEMENTS = (ast.Assign, ast.AugAssign, ast.If, ast.While, ast.For, ast.Return, ast.Break, ast.Continue,
+              ast.Pass, ast.Raise, ast.Expr, ast.FunctionDef, ast.ClassDef, ast.ImportFrom, ast.Try,
+              ast.Delete, ast.Assert)
+
+BUILTINS = '''len range enumerate zip min max sum abs sorted reversed int str bool list tuple dict set
+isinstance any all divmod ValueError KeyError'''.split()
+
+METHODS = '''append clear copy count endswith extend find get index insert isalnum isalpha isdigit islower
+isspace isupper items join keys ljust lower lstrip partition pop remove replace reverse rfind rjust
+rpartition rsplit rstrip setdefault split splitlines startswith strip update upper values zfill bit_length
+isascii add discard'''.split()
+
+DOUBLE = ['__init__', '__eq__', '__len__', '__contains__']
+
+UNUSED = '''register mro elements open input law version_info attrgetter breakpoint compile copyright
+credits delattr dir eval exec exit gc globals help id license locals os quit super type vars sys typing
+enum dataclass namedtuple overload contextmanager'''.split()
+
+
+def trees():
+    """Each file of the package with its text and its tree."""
+    for path in sorted(FOLDER.glob('*.py')):
+        text = path.read_text('utf-8')
+        yield path.name, text, ast.parse(text)
+
+
+def nodes(kind):
+    """All nodes of a kind, each with the place where it stands."""
+    for name, _, tree in trees():
+        for node in ast.walk(tree):
+            if isinstance(node, kind):
+                yield f'{name}:{getattr(node, "lineno", 0)}', node
+
+
+def bound_in(tree):
+    """All names that a file binds, with their places."""
+    for node in ast.walk(tree):
+        if isinstance(node, (ast.FunctionDef, ast.ClassDef)):
+            yield node.name
+        elif isinstance(node, ast.arg):
+            yield node.arg
+        elif isinstance(node, ast.Name) and not isinstance(node.ctx, ast.Load):
+            yield node.id
+        elif isinstance(node, ast.alias):
+            yield node.name
+
+
+class TestFiles(unittest.TestCase):
+
+    def test_folder_holds_plain_files_alone(self):
+        for path in FOLDER.iterdir():
+            if path.name != '__pycache__':
+                self.assertRegex(path.name, r'\A([a-z0-9_]+)\.py\Z')
+        self.assertTrue((FOLDER / '__init__.py').exists())
+
+    def test_sizes_and_signs(self):
+        for name, text, _ in trees():
+            lines = text.split('\n')
+            self.assertLessEqual(len(lines), 399, name)
+            for number, line in enumerate(lines, start=1):
+                self.assertLessEqual(len(line), 120, f'{name}:{number}')
+                self.assertTrue(all(' ' <= sign <= '~' for sign in line), f'{name}:{number}')
+
+    def test_functions_are_short_and_told(self):
+        for at, node in nodes(ast.FunctionDef):
+            self.assertLessEqual(node.end_lineno - node.lineno + 1, 40, at)
+            self.assertEqual(node.decorator_list, [], at)
+            if not node.name.startswith('__'):
+                self.assertTrue(ast.get_docstring(node), at)
+
+
+class TestStatements(unittest.TestCase):
+
+    def test_statements(self):
+        for at, node in nodes(ast.stmt):
+            self.assertIsInstance(node, STATEMENTS, at)
+        for kind in (ast.AsyncFunctionDef, ast.Lambda, ast.Yield, ast.NamedExpr, ast.AnnAssign, ast.Div):
+            self.assertEqual([at for at, _ in nodes(kind)], [], kind)
+
+    def test_module_level(self):
+        for name, _, tree in trees():
+            for node in tree.body:
+                docstring = isinstance(node, ast.Expr) and isinstance(node.value, ast.Constant)
+                plain = isinstance(node, ast.Assign) and isinstance(node.value, (ast.Constant, ast.Tuple))
+                self.assertTrue(docstring or plain or isinstance(
+                    node, (ast.ImportFrom, ast.FunctionDef, ast.ClassDef)), f'{name}:{node.lineno}')
+
+    def test_imports_name_the_file_that_defines(self):
+        defined = {}
+        for name, _, tree in trees():
+            defined[name] = [node.name for node in tree.body if hasattr(node, 'name')]
+            defined[name] += [node.targets[0].id for node in tree.body if isinstance(node, ast.Assign)]
+        for at, node in nodes(ast.ImportFrom):
+            package, module = node.module.split('.')
+            self.assertEqual((package, node.level), ('healedwebs', 0), at)
+            for alias in node.names:
+                self.assertIn(alias.name, defined[module + '.py'], at)
+                self.assertIsNone(alias.asname, at)
+
+    def test_errors_are_made_where_they_are_raised(self):
+        for at, node in nodes(ast.Raise):
+            self.assertIsInstance(node.exc, ast.Call, at)
+            self.assertIsInstance(node.exc.func, ast.Name, at)
+
+
+class TestNames(unittest.TestCase):
+
+    def test_builtins(self):
+        for at, node in nodes(ast.Name):
+            if isinstance(node.ctx, ast.Load) and hasattr(builtins, node.id):
+                self.assertIn(node.id, BUILTINS, at)
+
+    def test_no_name_hides_another_one(self):
+        for name, _, tree in trees():
+            imported = [alias.name for node in tree.body if isinstance(node, ast.ImportFrom)
+                        for alias in node.names]
+            once = imported + [node.name for node in tree.body if hasattr(node, 'name')]
+            bound = list(bound_in(tree))
+            for word in once:
+                self.assertEqual(bound.count(word), 1, f'{name}: {word}')
+            for word in bound:
+                self.assertFalse(hasattr(builtins, word) and word not in DOUBLE, f'{name}: {word}')
+                self.assertNotIn(word, UNUSED, name)
+                self.assertTrue(word in DOUBLE or not word.startswith('__'), f'{name}: {word}')
+
+    def test_methods_that_are_called(self):
+        own = [node.name for _, node in nodes(ast.FunctionDef)]
+        for at, node in nodes(ast.Call):
+            if isinstance(node.func, ast.Attribute):
+                self.assertIn(node.func.attr, METHODS + own, at)
+
+    def test_values(self):
+        for at, node in nodes(ast.Constant):
+            self.assertNotIsInstance(node.value, (float, complex, bytes), at)
+            if isinstance(node.value, str):
+                self.assertNotIn(chr(37), node.value, at)
+
+    def test_any_all_and_the_like_take_lists(self):
+        for at, node in nodes(ast.Call):
+            if isinstance(node.func, ast.Name) and node.func.id in BUILTINS:
+                for argument in node.args:
+                    self.assertNotIsInstance(argument, ast.GeneratorExp, at)
+
+    def test_sets_stand_in_sorted_or_len_alone(self):
+        held = [argument for _, node in nodes(ast.Call) if isinstance(node.func, ast.Name)
+                and node.func.id in ('sorted', 'len') for argument in node.args]
+        found = [node for _, node in nodes(ast.SetComp)]
+        lines = [(node.lineno, node.col_offset) for node in held]
+        for node in found:
+            self.assertIn((node.lineno, node.col_offset), lines)
