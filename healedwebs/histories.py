@@ -1,7 +1,7 @@
 """Histories: comings and deaths of places, and the web if nobody had died."""
 
-from healedwebs.basics import MOST_PLACES, ascends, is_name, is_within
-from healedwebs.errors import BadDeed, BadHistory, BadNumber, NoPlace
+from healedwebs.basics import MOST_PLACES, ascends, is_name, is_within, pair_of
+from healedwebs.errors import BadDeed, BadHistory, BadNumber, NoPlace, NotWood
 from healedwebs.webs import parts_of, web_of
 
 MOST_DEEDS = 400
@@ -16,8 +16,8 @@ class History:
         lives = lives_behind(deeds)
         self.text = text
         self.deeds = deeds
-        self.living = tuple(sorted([name for name in lives if lives[name]]))
-        self.dead = tuple(sorted([name for name in lives if not lives[name]]))
+        self.living = names_that(True, lives)
+        self.dead = names_that(False, lives)
 
     def __len__(self):
         return len(self.deeds)
@@ -59,6 +59,11 @@ def lives_behind(deeds):
     return lives
 
 
+def names_that(live, lives):
+    """The names of all places that live, or of all that do not, ascending."""
+    return tuple(sorted([name for name in lives if lives[name] == live]))
+
+
 def can_stand(value, lives, many):
     """Whether any value is a deed that can stand behind so many deeds."""
     if many >= MOST_DEEDS or not isinstance(value, tuple):
@@ -74,8 +79,13 @@ def can_come(name, ties, lives):
     """Whether a place with this name can come with these ties."""
     if not is_name(name) or name in lives or len(lives) >= MOST_PLACES:
         return False
-    return (isinstance(ties, tuple)
-            and all([is_living(tie, lives) for tie in ties]) and ascends(ties))
+    return are_living(ties, lives)
+
+
+def are_living(value, lives):
+    """Whether any value is an ascending tuple of names of living places."""
+    return (isinstance(value, tuple)
+            and all([is_living(name, lives) for name in value]) and ascends(value))
 
 
 def is_living(value, lives):
@@ -92,10 +102,17 @@ def line_of(deed):
 
 def led_on(history, deed):
     """The history with one deed more."""
-    if not can_stand(deed, lives_behind(history.deeds), len(history)):
+    lives = lives_behind(history.deeds)
+    if not can_stand(deed, lives, len(history)):
         raise BadDeed(deed)
-    lines = [line_of(old) for old in history.deeds]
-    return History("\n".join([*lines, line_of(deed)]))
+    lives[deed[1]] = deed[0] == "come"
+    later = History("")
+    # Not read from its text: that would read all deeds anew at each of them.
+    later.deeds = (*history.deeds, deed)
+    later.text = "\n".join([history.text, line_of(deed)]) if history.deeds else line_of(deed)
+    later.living = names_that(True, lives)
+    later.dead = names_that(False, lives)
+    return later
 
 
 def first_deeds(history, many):
@@ -116,7 +133,7 @@ def all_elder_ties(history):
     for deed in history.deeds:
         if deed[0] == "come":
             for tie in deed[2]:
-                pairs.append((min(deed[1], tie), max(deed[1], tie)))
+                pairs.append(pair_of(deed[1], tie))
     return sorted(pairs)
 
 
@@ -166,6 +183,13 @@ def rim_of(part, pairs):
 def is_wood_history(history):
     """Whether no coming has more than one tie."""
     return all([deed[0] == "die" or len(deed[2]) <= 1 for deed in history.deeds])
+
+
+def check_wood(history):
+    """Raises NotWood with the number of the first coming with more than one tie."""
+    for number, deed in enumerate(history.deeds):
+        if deed[0] == "come" and len(deed[2]) > 1:
+            raise NotWood(number)
 
 
 def figures(number):

@@ -26,17 +26,7 @@ class Web:
 
     def far_by_place(self, place):
         """For each place that is joined to this one, how far it is, in a dict."""
-        far = {place: 0}
-        edge = [place]
-        while edge:
-            beyond = []
-            for one in edge:
-                for other in self._tied[one]:
-                    if other not in far:
-                        far[other] = far[one] + 1
-                        beyond.append(other)
-            edge = beyond
-        return far
+        return far_along(self._tied, place)
 
     def tied_to(self, place):
         """The names of the places that are tied to this one, in a list."""
@@ -50,6 +40,24 @@ def tied_by(places, ties):
         tied[one].append(other)
         tied[other].append(one)
     return tied
+
+
+def far_along(tied, place):
+    """How far all are that are joined to a place, in a dict, by the lists that tied_by tells."""
+    far = {place: 0}
+    edge = [place]
+    while edge:
+        beyond = []
+        for one in edge:
+            # With all places reached, no tie leads to another one.
+            if len(far) == len(tied):
+                return far
+            for other in tied[one]:
+                if other not in far:
+                    far[other] = far[one] + 1
+                    beyond.append(other)
+        edge = beyond
+    return far
 
 
 def read_web(text):

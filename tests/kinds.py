@@ -2,14 +2,17 @@
 
 from healedwebs.errors import HealError
 from healedwebs.histories import History
+from healedwebs.live import HealedWeb
 from healedwebs.webs import Web
+
+LIVE = HealedWeb('web')
 
 
 def no_strings():
     """Values of all kinds but strings."""
     return [None, True, False, 0, 1, -1, 10 ** 39, (), ('a',), ('places',), [], ['places'], {},
             {'places': 'a'}, Web('places'), Web('places a b\ntie a b'), History(''),
-            History('come a'), [Web('places')], ({'a': [History('')]},)]
+            History('come a'), [Web('places')], ({'a': [History('')]},), LIVE, (LIVE,)]
 
 
 def no_names():

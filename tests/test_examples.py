@@ -34,6 +34,62 @@ HISTORIES = r'''
 ['come a', True, [0, 1, 2, 3, 4]]
 '''
 
+JUDGED = r'''
+>>> from healedwebs.histories import History
+>>> from healedwebs.judged import is_rows, judged, measures
+>>> star = History('come a\ncome b a\ncome c a\ncome d a\ndie a')
+>>> ahead = ((), (('a', 'b'),), (('a', 'b'), ('a', 'c')), (('a', 'b'), ('a', 'c'), ('a', 'd')))
+>>> line, none = (*ahead, (('b', 'c'), ('c', 'd'))), (*ahead, ())
+>>> [is_rows(star, line), is_rows(star, ahead), is_rows(star, (*ahead, (('a', 'b'),)))]
+[True, False, False]
+>>> [judged(star, line, 'web'), judged(star, line, 'wood'), judged(star, none, 'wood')]
+[('kept',), ('kept',), ('broken', 4, 'parted', ('b', 'c'), None, None)]
+>>> judged(star, ((), (), *line[2:]), 'web')
+('broken', 1, 'coming', ('a', 'b'), None, None)
+>>> [measures(star, line), measures(star, none)]
+[(1, (2, 1), (1, 1), 2), (0, (1, 1), (1, 1), 0)]
+>>> pair = History('come a\ncome b\ncome c')
+>>> judged(pair, ((), (), (('a', 'b'),)), 'web')
+('broken', 2, 'coming', ('a', 'b'), None, None)
+'''
+
+HEALER = r'''
+>>> from healedwebs.healer import healed
+>>> from healedwebs.histories import History
+>>> from healedwebs.judged import judged
+>>> star = History('come a\ncome b a\ncome c a\ncome d a\ncome e a\ndie a')
+>>> rows = healed(star)
+>>> [len(rows), rows[3], judged(star, rows, 'web')]
+[6, (('a', 'b'), ('a', 'c'), ('a', 'd')), ('kept',)]
+>>> healed(History('come a\ncome b a\ncome c b\ndie b'))[3]
+(('a', 'c'),)
+'''
+
+WILLS = r'''
+>>> from healedwebs.histories import History
+>>> from healedwebs.wills import healed_wood
+>>> star = History('come a\ncome b a\ncome c a\ndie a\ncome d c')
+>>> healed_wood(star)
+((), (('a', 'b'),), (('a', 'b'), ('a', 'c')), (('b', 'c'),), (('b', 'c'), ('c', 'd')))
+>>> names = 'bcdefghij'
+>>> many = History('\n'.join(['come a'] + ['come ' + name + ' a' for name in names] + ['die a']))
+>>> last = healed_wood(many)[-1]
+>>> all([len([tie for tie in last if name in tie]) <= 4 for name in names])
+True
+'''
+
+LIVE = r'''
+>>> from healedwebs.live import HealedWeb
+>>> web = HealedWeb('wood')
+>>> [web.come('a', ()), web.come('b', ('a',)), web.changed, web.come('c', ('a',)), web.ties]
+[None, None, ((('a', 'b'),), ()), None, (('a', 'b'), ('a', 'c'))]
+>>> other = web.copy()
+>>> [other.die('a'), other.ties, other.changed, other.names, len(web), 'a' in other]
+[None, (('b', 'c'),), ((('b', 'c'),), (('a', 'b'), ('a', 'c'))), ('b', 'c'), 3, False]
+>>> [web.tied_to('a'), web.past.deeds[1], other.past.deeds[-1]]
+[('b', 'c'), ('come', 'b', ('a',)), ('die', 'a')]
+'''
+
 
 class TestExamples(unittest.TestCase):
 
@@ -49,6 +105,18 @@ class TestExamples(unittest.TestCase):
 
     def test_section_5(self):
         self.run_example(HISTORIES, 'section 5')
+
+    def test_section_6(self):
+        self.run_example(JUDGED, 'section 6')
+
+    def test_section_7(self):
+        self.run_example(HEALER, 'section 7')
+
+    def test_section_8(self):
+        self.run_example(WILLS, 'section 8')
+
+    def test_section_9(self):
+        self.run_example(LIVE, 'section 9')
 
     def test_readme(self):
         text = (FOLDER.parent / 'README.md').read_text('utf-8')

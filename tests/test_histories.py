@@ -262,6 +262,8 @@ class TestFirstDeeds(unittest.TestCase, Raises):
             history = History('\n'.join(random_lines(dice_of(number), 25)))
             grown = History('')
             for many, deed in enumerate(history.deeds):
-                self.assertEqual(grown, first_deeds(history, many))
+                first = first_deeds(history, many)
+                self.assertEqual(grown, first)
+                self.assertEqual((grown.deeds, grown.living, grown.dead), (first.deeds, first.living, first.dead))
                 grown = led_on(grown, deed)
             self.assertEqual(grown, history)

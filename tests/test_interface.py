@@ -5,7 +5,8 @@ import importlib
 import inspect
 import unittest
 
-from healedwebs.histories import History
+from healedwebs.histories import History, led_on
+from healedwebs.live import HealedWeb
 from healedwebs.webs import Web
 from tests.test_errors import NAMES
 from tests.test_language import FOLDER
@@ -18,15 +19,26 @@ FUNCTIONS = {
                   'elder_web': ['history'], 'elder_ties': ['history', 'name'], 'slots': ['history'],
                   'dead_parts': ['history'], 'rims': ['history'], 'is_wood_history': ['history'],
                   'figures': ['number']},
+    'judged': {'is_rows': ['history', 'value'], 'judged': ['history', 'rows', 'kind'],
+               'measures': ['history', 'rows']},
+    'healer': {'healed': ['history']},
+    'wills': {'healed_wood': ['history']},
 }
 
 CLASSES = {
     'errors': {name: ['value'] for name in ['HealError', *NAMES]},
     'webs': {'Web': ['text']},
     'histories': {'History': ['text']},
+    'live': {'HealedWeb': ['kind']},
 }
 
-METHODS = {'Web': ['__len__', '__contains__', '__eq__'], 'History': ['__len__', '__eq__']}
+METHODS = {'Web': {'__len__': [], '__contains__': ['value'], '__eq__': ['other']},
+           'History': {'__len__': [], '__eq__': ['other']},
+           'HealedWeb': {'__len__': [], '__contains__': ['value'], 'come': ['name', 'ties'], 'die': ['name'],
+                         'tied_to': ['name'], 'copy': []}}
+
+ATTRIBUTES = {'Web': {'text', 'places', 'ties'}, 'History': {'text', 'deeds', 'living', 'dead'},
+              'HealedWeb': {'kind', 'past', 'names', 'ties', 'changed'}}
 
 
 def defined_in(module):
@@ -54,10 +66,15 @@ class TestInterface(unittest.TestCase):
                 self.assertEqual(list(inspect.signature(made).parameters), arguments, name)
 
     def test_methods_stand_in_the_class_itself(self):
-        for made in (Web, History):
-            for name in METHODS[made.__name__]:
+        for made in (Web, History, HealedWeb):
+            for name, arguments in METHODS[made.__name__].items():
                 self.assertIn(name, vars(made))
+                found = list(inspect.signature(vars(made)[name]).parameters)
+                self.assertEqual(found, ['self', *arguments], name)
 
     def test_attributes_are_set_on_each_object(self):
-        self.assertLessEqual({'text', 'places', 'ties'}, set(vars(Web('places'))))
-        self.assertLessEqual({'text', 'deeds', 'living', 'dead'}, set(vars(History(''))))
+        live = HealedWeb('web')
+        live.come('a', ())
+        for made in (Web('places'), Web('places a'), History(''), led_on(History(''), ('come', 'a', ())),
+                     HealedWeb('web'), HealedWeb('wood'), live, live.copy()):
+            self.assertLessEqual(ATTRIBUTES[type(made).__name__], set(vars(made)))

@@ -12,7 +12,10 @@ STATEMENTS = (ast.Assign, ast.AugAssign, ast.If, ast.While, ast.For, ast.Return,
               ast.Delete, ast.Assert)
 
 BUILTINS = '''len range enumerate zip min max sum abs sorted reversed int str bool list tuple dict set
-isinstance any all divmod ValueError KeyError'''.split()
+isinstance any all divmod set ValueError KeyError'''.split()
+
+LIBRARY = {'math': ['gcd', 'lcm', 'isqrt', 'comb', 'perm', 'factorial'],
+           'heapq': ['heappush', 'heappop', 'heapify', 'heapreplace', 'heappushpop']}
 
 METHODS = '''append clear copy count endswith extend find get index insert isalnum isalpha isdigit islower
 isspace isupper items join keys ljust lower lstrip partition pop remove replace reverse rfind rjust
@@ -100,11 +103,35 @@ class TestStatements(unittest.TestCase):
             defined[name] = [node.name for node in tree.body if hasattr(node, 'name')]
             defined[name] += [node.targets[0].id for node in tree.body if isinstance(node, ast.Assign)]
         for at, node in nodes(ast.ImportFrom):
-            package, module = node.module.split('.')
-            self.assertEqual((package, node.level), ('healedwebs', 0), at)
+            if node.module in LIBRARY:
+                found = LIBRARY[node.module]
+            else:
+                package, module = node.module.split('.')
+                self.assertEqual(package, 'healedwebs', at)
+                found = defined[module + '.py']
+            self.assertEqual(node.level, 0, at)
             for alias in node.names:
-                self.assertIn(alias.name, defined[module + '.py'], at)
+                self.assertIn(alias.name, found, at)
                 self.assertIsNone(alias.asname, at)
+
+    def test_no_files_import_from_each_other(self):
+        ahead = {}
+        for name, _, tree in trees():
+            ahead[name[:-3]] = {node.module.split('.')[1] for node in tree.body
+                                if isinstance(node, ast.ImportFrom) and '.' in node.module}
+        while ahead:
+            free = [name for name in ahead if not ahead[name] & set(ahead)]
+            self.assertTrue(free, ahead)
+            ahead = {name: ahead[name] for name in ahead if name not in free}
+
+    def test_names_of_the_library_are_only_called(self):
+        for name, _, tree in trees():
+            words = [alias.name for node in tree.body if isinstance(node, ast.ImportFrom)
+                     and node.module in LIBRARY for alias in node.names]
+            called = [node.func for node in ast.walk(tree) if isinstance(node, ast.Call) and not node.keywords]
+            for node in ast.walk(tree):
+                if isinstance(node, ast.Name) and node.id in words:
+                    self.assertIn(node, called, f'{name}:{node.lineno}')
 
     def test_errors_are_made_where_they_are_raised(self):
         for at, node in nodes(ast.Raise):
@@ -151,9 +178,34 @@ class TestNames(unittest.TestCase):
                     self.assertNotIsInstance(argument, ast.GeneratorExp, at)
 
     def test_sets_stand_in_sorted_or_len_alone(self):
-        held = [argument for _, node in nodes(ast.Call) if isinstance(node.func, ast.Name)
-                and node.func.id in ('sorted', 'len') for argument in node.args]
-        found = [node for _, node in nodes(ast.SetComp)]
-        lines = [(node.lineno, node.col_offset) for node in held]
-        for node in found:
-            self.assertIn((node.lineno, node.col_offset), lines)
+        joined = (ast.Sub, ast.BitAnd, ast.BitOr, ast.BitXor)
+        for name, _, tree in trees():
+            above = {child: node for node in ast.walk(tree) for child in ast.iter_child_nodes(node)}
+            for node in ast.walk(tree):
+                if not isinstance(node, (ast.Set, ast.SetComp)) and not (
+                        isinstance(node, ast.Call) and isinstance(node.func, ast.Name) and node.func.id == 'set'):
+                    continue
+                over = above[node]
+                while isinstance(over, ast.BinOp) and isinstance(over.op, joined):
+                    over = above[over]
+                self.assertIsInstance(over, ast.Call, f'{name}:{node.lineno}')
+                self.assertIn(over.func.id, ('sorted', 'len'), f'{name}:{node.lineno}')
+
+    def test_no_name_is_a_method_and_an_attribute(self):
+        for name, _, tree in trees():
+            for node in tree.body:
+                if isinstance(node, ast.ClassDef):
+                    methods = [part.name for part in node.body if isinstance(part, ast.FunctionDef)]
+                    held = [part.attr for part in ast.walk(node) if isinstance(part, ast.Attribute)
+                            and isinstance(part.ctx, ast.Store)]
+                    self.assertEqual(len(set(methods)), len(methods), f'{name}: {node.name}')
+                    self.assertEqual(set(methods) & set(held), set(), f'{name}: {node.name}')
+
+    def test_attributes_that_are_read_are_assigned(self):
+        held = {node.attr for _, node in nodes(ast.Attribute) if isinstance(node.ctx, ast.Store)}
+        for name, _, tree in trees():
+            called = [node.func for node in ast.walk(tree) if isinstance(node, ast.Call)]
+            for node in ast.walk(tree):
+                if isinstance(node, ast.Attribute) and node not in called:
+                    self.assertIn(node.attr, held, f'{name}:{node.lineno}')
+                    self.assertNotIn(node.attr, METHODS, f'{name}:{node.lineno}')
