@@ -2,8 +2,9 @@
 
 import unittest
 
+from healedwebs.basics import pair_of
 from healedwebs.healer import healed
-from healedwebs.histories import History, first_deeds
+from healedwebs.histories import History, dead_parts, elder_web, first_deeds, slots
 from healedwebs.judged import is_rows, judged
 from healedwebs.live import HealedWeb
 from tests.bounds import first_wrong
@@ -139,6 +140,17 @@ class TestShapes(Keeps):
                 web.die(busiest(web, ()))
             self.keeps(web)
 
+    def test_small_dead_parts_that_join_a_great_one(self):
+        # Each of many ends of a star has a neighbour with an end of its own; the
+        # middle dies, and those neighbours, and then the ends of the star.
+        for many, left in ((20, 4), (66, 10)):
+            beside = [[]] * (many + 1) + [[at] for at in range(many)] + [[at, many] for at in range(many)]
+            for order in (1, -1):
+                web = led(HealedWeb('web'), drawn(beside))
+                for at in [many, *range(many), *list(range(2 * many + 1, 3 * many + 1 - left))[::order]]:
+                    web.die(name_of(at))
+                self.keeps(web)
+
     def test_dead_parts_without_slots_beside_others(self):
         # All neighbours of the one who dies are dead, and have no other living ones.
         web = led(HealedWeb('web'), drawn([[], [0], [1], [2], [0]]))
@@ -197,6 +209,60 @@ class TestComingsAmidDeaths(Keeps):
         rows = healed(web.past)
         self.assertEqual(rows[-1], web.ties)
         self.assertEqual([len(row) for row in rows[-6:]], [many * (many - 1) // 2 for many in range(200, 194, -1)])
+
+
+class TestTrees(unittest.TestCase):
+    """The trees by which the dead parts hang together, from within."""
+
+    def heights(self, trees, slot):
+        """The slots below and with this one; all that is told of them is right."""
+        below = trees._below[slot]
+        found = [slot]
+        for one in below:
+            self.assertEqual(trees._above[one], slot)
+            found.extend(self.heights(trees, one))
+        told = sorted([trees._height[one] for one in below])
+        self.assertEqual(trees._height[slot], 1 + max([0, *told]))
+        self.assertLessEqual(len(told), 2)
+        self.assertLessEqual(([0, 0] + told)[-1] - ([0, 0] + told)[-2], 1)
+        return found
+
+    def stands(self, healer, history):
+        trees = healer._trees
+        tops = [slot for slot in trees._above if trees._above[slot] is None]
+        found = sorted([sorted(self.heights(trees, top)) for top in tops])
+        told = [[slot for slot in slots(history) if slot[1] in part] for part in dead_parts(history)]
+        self.assertEqual(found, sorted([part for part in told if part]))
+        links = {pair_of(slot[0], above[0]) for slot, above in trees._above.items() if above and slot[0] != above[0]}
+        living = {tie for tie in elder_web(history).ties if set(tie) <= set(history.living)}
+        self.assertEqual(healer.held.row, tuple(sorted(links | living)))
+
+    def follows(self, deeds):
+        web = HealedWeb('web')
+        for deed in deeds:
+            led(web, [deed])
+            self.stands(web._healer, web.past)
+            self.stands(web.copy()._healer, web.past)
+
+    def test_drawn_histories(self):
+        for number in range(60):
+            self.follows(History('\n'.join(random_lines(dice_of(number), 40))).deeds)
+
+    def test_shapes(self):
+        for number, comings in enumerate((star(30), full(9), grid(4, 5), stars_of_stars(4, 5),
+                                          random_web_comings(dice_of(1), 30, 5), line(20), ring(12))):
+            for choose in (busiest, most_elder, by_chance(dice_of(number))):
+                self.follows(eaten('web', comings, choose).past.deeds)
+
+    def test_great_trees_joined(self):
+        # The middles of stars of unlike sizes die, then the one who is tied to all of them.
+        for sizes in ((1, 30), (30, 1), (2, 9, 30), (30, 9, 2), (1, 1, 20, 3), (5, 5, 5, 5), (12, 0, 12), (3, 40, 3, 40)):
+            beside = [[]] * len(sizes) + [[at] for at, size in enumerate(sizes) for _ in range(size)]
+            beside.append(list(range(len(sizes))))
+            web = led(HealedWeb('web'), drawn(beside))
+            for at in [*range(len(sizes)), len(beside) - 1]:
+                web.die(name_of(at))
+                self.stands(web._healer, web.past)
 
 
 class TestNothingLaterCounts(Keeps):

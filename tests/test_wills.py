@@ -181,6 +181,76 @@ class TestComingsAmidDeaths(Keeps):
             self.keeps(web)
 
 
+class TestKnots(unittest.TestCase):
+    """The knots that dead places leave, from within."""
+
+    def stands(self, healer, history):
+        above, below, stands = healer._above, healer._below, healer._stands
+        self.assertEqual(sorted([node for node in above if node not in stands]), list(history.living))
+        self.assertEqual(set(above), set(below))
+        for node in above:
+            self.assertTrue(all(above[one] == node for one in below[node]))
+            self.assertTrue(above[node] is None or node in below[above[node]])
+            self.assertTrue(node not in stands or len(below[node]) == 2)
+        self.assertEqual({place: knot for knot, place in stands.items()}, healer._duty)
+        self.assertEqual(len(stands), len(healer._duty))
+        held = set()
+        for node in above:
+            self.assertIn(healer._place_of(node), history.living)
+            ends = tuple(sorted([healer._place_of(node), healer._place_of(above[node])])) if above[node] is not None else ()
+            held |= {ends} if len(set(ends)) == 2 else set()
+        self.assertEqual(healer.held.row, tuple(sorted(held)))
+        for knot in stands:
+            if above[knot] not in stands:
+                self.hangs(healer, knot)
+
+    def hangs(self, healer, top):
+        """Of the places below knots that hang together each but one stands for one of them."""
+        knots, places, waiting = [], [], [top]
+        while waiting:
+            node = waiting.pop()
+            if node in healer._stands:
+                knots.append(node)
+                waiting.extend(healer._below[node])
+            else:
+                places.append(node)
+        standing = [healer._stands[knot] for knot in knots]
+        self.assertEqual(len(set(standing)), len(knots))
+        self.assertEqual(len(places), len(knots) + 1)
+        self.assertLessEqual(set(standing), set(places))
+
+    def follows(self, deeds):
+        web = HealedWeb('wood')
+        for deed in deeds:
+            led(web, [deed])
+            self.stands(web._healer, web.past)
+            self.stands(web.copy()._healer, web.past)
+
+    def test_drawn_woods(self):
+        for number in range(60):
+            dice = dice_of(number)
+            comings = random_wood_comings(dice, 40, dice.choice([1, 3, 40]), 0.05)
+            self.follows(amid('wood', comings, dice, by_chance(dice), 0.4, 1).past.deeds)
+
+    def test_shapes(self):
+        for number, comings in enumerate((star(30), comb(12), halves(31), stars_of_stars(4, 5), line(20))):
+            for choose in (busiest, most_elder, last_comer, by_chance(dice_of(number))):
+                self.follows(eaten('wood', comings, choose).past.deeds)
+
+    def test_as_low_as_can_be(self):
+        for ends in range(1, 70):
+            web = led(HealedWeb('wood'), star(ends))
+            web.die(name_of(0))
+            healer = web._healer
+            depths = []
+            for name in web.names:
+                node, depth = name, 0
+                while healer._above[node] is not None:
+                    node, depth = healer._above[node], depth + 1
+                depths.append(depth)
+            self.assertEqual(2 ** max(depths) < 2 * ends, True)
+
+
 class TestNothingLaterCounts(Keeps):
 
     def test_beginnings(self):
