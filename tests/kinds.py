@@ -32,7 +32,7 @@ def many_names(many):
     return tuple([one + other for one in letters for other in letters][:many])
 
 
-def raised(call, *args, **more):
+def raised(call, /, *args, **more):
     """The class and the value of the package's error that a call raises; None if it raises none."""
     try:
         call(*args, **more)
@@ -44,7 +44,7 @@ def raised(call, *args, **more):
 class Raises:
     """For test cases: the very error, with the very value."""
 
-    def raises(self, error, value, call, *args, **more):
+    def raises(self, error, value, call, /, *args, **more):
         found = raised(call, *args, **more)
         self.assertIsNotNone(found, f'{error.__name__} is not raised for {args!r} {more!r}')
         self.assertIs(found[0], error, f'{args!r} {more!r}')

@@ -90,6 +90,64 @@ LIVE = r'''
 [('b', 'c'), ('come', 'b', ('a',)), ('die', 'a')]
 '''
 
+RULES = r'''
+>>> from healedwebs.breakers import breaker, shows_breaker
+>>> from healedwebs.histories import History
+>>> from healedwebs.rules import mended_by, played_by
+>>> from healedwebs.webs import Web
+>>> web = Web('places a b c m\ntie a c\ntie a m\ntie b m\ntie c m')
+>>> [mended_by(rule, web, 'm').ties for rule in ('none', 'line', 'least')]
+[(('a', 'c'),), (('a', 'b'), ('a', 'c'), ('b', 'c')), (('a', 'b'), ('a', 'c'), ('b', 'c'))]
+>>> played_by('star', History('come m\ncome a m\ncome b m\ncome c m\ndie m'))[-1]
+(('a', 'b'), ('a', 'c'))
+>>> [breaker('star', 'far', 3), breaker('none', 'changes', 1), shows_breaker('line', 'parted', 0, None)]
+[None, None, True]
+>>> [shows_breaker('none', 'parted', 0, breaker('none', 'parted', 0)), shows_breaker('ring', 'more', 7, breaker('ring', 'more', 7))]
+[True, True]
+>>> star = History('come m\ncome a m\ncome b m\ncome c m\ncome d m\ndie m')
+>>> [shows_breaker(rule, 'far', goal, star) for rule, goal in (('line', 1), ('line', 2), ('ring', 1), ('star', 1))]
+[True, False, False, False]
+>>> [shows_breaker('all', 'changes', 1, star), shows_breaker('star', 'changes', 1, star), shows_breaker('star', 'more', 1, star)]
+[True, False, True]
+'''
+
+STARS = r'''
+>>> from healedwebs.stars import is_tree_for, least_far, shows_least_far, tree_farthest, tree_room, web_floor
+>>> [is_tree_for((2, 2, 1), ((0, 1), (0, 2))), is_tree_for((1, 2, 1), ((0, 1), (0, 2))), is_tree_for((0,), ()), is_tree_for((2, 2, 2), ((0, 1),))]
+[True, False, True, False]
+>>> [least_far((1, 3, 1, 1)), least_far((5,)), least_far((3, 3, 1, 1, 1, 1))[0], least_far((2, 2, 2, 2))[0]]
+[(2, ((0, 1), (1, 2), (1, 3))), (0, ()), 3, 3]
+>>> [tree_farthest((2, 2, 2, 2), ((0, 1), (0, 2), (1, 3))), shows_least_far((2, 2, 2, 2), (3, ((0, 1), (0, 2), (1, 3))))]
+[3, True]
+>>> [tree_room(0, 3), tree_room(1, 3), tree_room(2, 3), tree_room(3, 3), tree_room(4, 3), tree_room(9, 1), tree_room(9, 2)]
+[1, 2, 4, 6, 10, 2, 10]
+>>> [web_floor(1, 3), web_floor(4, 3), web_floor(5, 3), web_floor(10, 3), web_floor(11, 3), web_floor(9, 2), web_floor(2, 1)]
+[0, 1, 2, 2, 3, 4, 1]
+'''
+
+DESKS = r'''
+>>> from healedwebs.desk import Desk, desk_text, read_desk
+>>> desk = Desk()
+>>> desk.lead(('history', 'star', 'come a\ncome b a\ncome c a'))
+>>> desk.lead(('live', 'now', 'wood'))
+>>> desk.lead(('play', 'now', 'star'))
+>>> desk.note('whole')
+>>> desk.lead(('die', 'now', 'a'))
+>>> [desk.names, desk.thing_kind('now'), desk.thing_of('now').ties, desk.far_of('now', 'b', 'c')]
+[('now', 'star'), 'live', (('b', 'c'),), 1]
+>>> desk.lead(('past', 'all', 'now'))
+>>> desk.lead(('elder', 'old', 'all'))
+>>> [desk.thing_of('all').text, desk.far_of('old', 'b', 'c')]
+['come a\ncome b a\ncome c a\ndie a', 2]
+>>> desk.back('whole')
+>>> [desk.names, desk.thing_of('now').ties, len(desk.all_deeds()[1])]
+[('now', 'star'), (('a', 'b'), ('a', 'c')), 3]
+>>> desk_text(desk).split('\n')[:4] + desk_text(desk).split('\n')[-4:]
+['stand 3', 'note whole 3', 'history star 3', 'come a', 'play now star', 'die now a', 'past all now', 'elder old all']
+>>> desk_text(read_desk(desk_text(desk))) == desk_text(desk)
+True
+'''
+
 
 class TestExamples(unittest.TestCase):
 
@@ -117,6 +175,15 @@ class TestExamples(unittest.TestCase):
 
     def test_section_9(self):
         self.run_example(LIVE, 'section 9')
+
+    def test_section_10(self):
+        self.run_example(RULES, 'section 10')
+
+    def test_section_11(self):
+        self.run_example(STARS, 'section 11')
+
+    def test_section_12(self):
+        self.run_example(DESKS, 'section 12')
 
     def test_readme(self):
         text = (FOLDER.parent / 'README.md').read_text('utf-8')

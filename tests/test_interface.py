@@ -5,6 +5,7 @@ import importlib
 import inspect
 import unittest
 
+from healedwebs.desk import Desk, read_desk
 from healedwebs.histories import History, led_on
 from healedwebs.live import HealedWeb
 from healedwebs.webs import Web
@@ -23,6 +24,11 @@ FUNCTIONS = {
                'measures': ['history', 'rows']},
     'healer': {'healed': ['history']},
     'wills': {'healed_wood': ['history']},
+    'rules': {'mended_by': ['rule', 'web', 'name'], 'played_by': ['rule', 'history']},
+    'breakers': {'breaker': ['rule', 'kind', 'goal'], 'shows_breaker': ['rule', 'kind', 'goal', 'value']},
+    'stars': {'is_tree_for': ['limits', 'value'], 'tree_farthest': ['limits', 'ties'], 'least_far': ['limits'],
+              'shows_least_far': ['limits', 'value'], 'tree_room': ['far', 'most'], 'web_floor': ['many', 'most']},
+    'desk': {'desk_text': ['desk'], 'read_desk': ['text']},
 }
 
 CLASSES = {
@@ -30,15 +36,19 @@ CLASSES = {
     'webs': {'Web': ['text']},
     'histories': {'History': ['text']},
     'live': {'HealedWeb': ['kind']},
+    'desk': {'Desk': []},
 }
 
 METHODS = {'Web': {'__len__': [], '__contains__': ['value'], '__eq__': ['other']},
            'History': {'__len__': [], '__eq__': ['other']},
            'HealedWeb': {'__len__': [], '__contains__': ['value'], 'come': ['name', 'ties'], 'die': ['name'],
-                         'tied_to': ['name'], 'copy': []}}
+                         'tied_to': ['name'], 'copy': []},
+           'Desk': {'__len__': [], '__contains__': ['value'], 'lead': ['deed'], 'thing_of': ['name'],
+                    'thing_kind': ['name'], 'far_of': ['name', 'one', 'other'], 'undo': [], 'redo': [],
+                    'note': ['word'], 'notes': [], 'back': ['word'], 'all_deeds': []}}
 
 ATTRIBUTES = {'Web': {'text', 'places', 'ties'}, 'History': {'text', 'deeds', 'living', 'dead'},
-              'HealedWeb': {'kind', 'past', 'names', 'ties', 'changed'}}
+              'HealedWeb': {'kind', 'past', 'names', 'ties', 'changed'}, 'Desk': {'names'}}
 
 
 def defined_in(module):
@@ -66,7 +76,7 @@ class TestInterface(unittest.TestCase):
                 self.assertEqual(list(inspect.signature(made).parameters), arguments, name)
 
     def test_methods_stand_in_the_class_itself(self):
-        for made in (Web, History, HealedWeb):
+        for made in (Web, History, HealedWeb, Desk):
             for name, arguments in METHODS[made.__name__].items():
                 self.assertIn(name, vars(made))
                 found = list(inspect.signature(vars(made)[name]).parameters)
@@ -76,5 +86,5 @@ class TestInterface(unittest.TestCase):
         live = HealedWeb('web')
         live.come('a', ())
         for made in (Web('places'), Web('places a'), History(''), led_on(History(''), ('come', 'a', ())),
-                     HealedWeb('web'), HealedWeb('wood'), live, live.copy()):
+                     HealedWeb('web'), HealedWeb('wood'), live, live.copy(), Desk(), read_desk('stand 0')):
             self.assertLessEqual(ATTRIBUTES[type(made).__name__], set(vars(made)))

@@ -93,9 +93,50 @@ class TestStatements(unittest.TestCase):
         for name, _, tree in trees():
             for node in tree.body:
                 docstring = isinstance(node, ast.Expr) and isinstance(node.value, ast.Constant)
-                plain = isinstance(node, ast.Assign) and isinstance(node.value, (ast.Constant, ast.Tuple))
+                plain = isinstance(node, ast.Assign) and isinstance(node.value, (ast.Constant, ast.Tuple, ast.Dict))
                 self.assertTrue(docstring or plain or isinstance(
                     node, (ast.ImportFrom, ast.FunctionDef, ast.ClassDef)), f'{name}:{node.lineno}')
+
+    def test_tables(self):
+        """At module level they hold plain values, and functions from above; they are only read by keys."""
+        for name, _, tree in trees():
+            above = {child: node for node in ast.walk(tree) for child in ast.iter_child_nodes(node)}
+            for node in tree.body:
+                if not (isinstance(node, ast.Assign) and isinstance(node.value, ast.Dict)):
+                    continue
+                defined = [other.name for other in tree.body[:tree.body.index(node)]
+                           if isinstance(other, ast.FunctionDef)]
+                for value in [*node.value.keys, *node.value.values]:
+                    at = f'{name}:{value.lineno}'
+                    if isinstance(value, ast.Name):
+                        self.assertIn(value.id, defined, at)
+                    else:
+                        for part in value.elts if isinstance(value, ast.Tuple) else [value]:
+                            self.assertIsInstance(part, ast.Constant, at)
+                word = node.targets[0].id
+                for other in ast.walk(tree):
+                    if isinstance(other, ast.Name) and other.id == word and isinstance(other.ctx, ast.Load):
+                        over = above[other]
+                        self.assertTrue(isinstance(over, ast.Subscript) or isinstance(over, ast.Attribute)
+                                        and over.attr == 'get', f'{name}:{other.lineno}')
+                        # A function from a table has a name before it is called.
+                        self.assertFalse(isinstance(above[over], ast.Call) and above[over].func is over
+                                         and isinstance(over, ast.Subscript), f'{name}:{other.lineno}')
+
+    def test_stars_in_calls(self):
+        for at, node in nodes(ast.Call):
+            for argument in node.args:
+                if isinstance(argument, ast.Starred):
+                    self.assertIsInstance(argument.value, (ast.Name, ast.Attribute), at)
+            self.assertEqual([word for word in node.keywords if word.arg is None], [], at)
+
+    def test_own_errors_alone_are_caught(self):
+        own = [node.name for name, _, tree in trees() if name == 'errors.py' for node in tree.body
+               if isinstance(node, ast.ClassDef)]
+        for at, node in nodes(ast.ExceptHandler):
+            self.assertIsInstance(node.type, ast.Name, at)
+            self.assertIn(node.type.id, own, at)
+            self.assertIsNone(node.name, at)
 
     def test_imports_name_the_file_that_defines(self):
         defined = {}
@@ -155,6 +196,8 @@ class TestNames(unittest.TestCase):
             for word in once:
                 self.assertEqual(bound.count(word), 1, f'{name}: {word}')
             for word in bound:
+                if word == '_':
+                    continue
                 self.assertFalse(hasattr(builtins, word) and word not in DOUBLE, f'{name}: {word}')
                 self.assertNotIn(word, UNUSED, name)
                 self.assertTrue(word in DOUBLE or not word.startswith('__'), f'{name}: {word}')
@@ -164,6 +207,10 @@ class TestNames(unittest.TestCase):
         for at, node in nodes(ast.Call):
             if isinstance(node.func, ast.Attribute):
                 self.assertIn(node.func.attr, METHODS + own, at)
+
+    def test_the_lone_underscore_is_not_read(self):
+        for at, node in nodes(ast.Name):
+            self.assertFalse(node.id == '_' and isinstance(node.ctx, ast.Load), at)
 
     def test_values(self):
         for at, node in nodes(ast.Constant):
