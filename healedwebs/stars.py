@@ -32,7 +32,7 @@ def is_tree_for(limits, value):
         return False
     if not all([is_tie_of(tie, many) for tie in value]) or not ascends(value):
         return False
-    tied = tied_by(range(many), value)
+    tied = tied_by(list(range(many)), value)
     # With one tie less than places, all are joined only if there is no ring.
     return len(far_along(tied, 0)) == many and all([len(tied[at]) <= limit for at, limit in enumerate(limits)])
 
@@ -53,7 +53,7 @@ def tree_farthest(limits, ties):
 
 def way_through(many, ties):
     """The farthest of a tree of so many places."""
-    tied = tied_by(range(many), ties)
+    tied = tied_by(list(range(many)), ties)
     # In a tree each longest way has an end among those farthest from any place.
     return last_reached(tied, last_reached(tied, 0)[1])[0]
 

@@ -22,14 +22,20 @@ class LiveThing:
     def healed_web(self):
         """The HealedWeb that stands there."""
         if self._web is None:
-            self._web = HealedWeb(self.kind)
-            for deed in self.past.deeds:
-                go_on(self._web, deed)
+            self._web = web_behind(self.kind, self.past.deeds)
         return self._web
 
     def let_go(self):
         """Keeps the HealedWeb no longer, as it has gone on."""
         self._web = None
+
+
+def web_behind(kind, deeds):
+    """The HealedWeb of this kind that these deeds have led on."""
+    web = HealedWeb(kind)
+    for deed in deeds:
+        go_on(web, deed)
+    return web
 
 
 def go_on(web, deed):
@@ -70,8 +76,9 @@ def check_fresh(things, name):
         raise Held(name)
 
 
-# Each of the functions that follow does nothing to the things. It returns the
-# name that the deed is about, and what is the thing of it then, None for none.
+# None of the functions that follow puts or drops anything: for an undone deed the
+# desk has to know what was there. Each returns the name that the deed is about,
+# and what is to be the thing of this name, None for none.
 
 def by_web(things, name, text):
     """What a deed "web" makes."""
@@ -143,10 +150,10 @@ def later_thing(thing, deed):
 def by_play(things, name, one):
     """What a deed "play" makes."""
     thing = thing_of_kind(things, name, "live")
-    history = thing_of_kind(things, one, "history")
+    deeds = thing_of_kind(things, one, "history").deeds
     # A copy goes on: so nothing is done if a later deed is refused.
     web = thing.healed_web().copy()
-    for number, deed in enumerate(history.deeds):
+    for number, deed in enumerate(deeds):
         try:
             go_on(web, deed)
         except HealError:

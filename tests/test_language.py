@@ -238,6 +238,23 @@ class TestNames(unittest.TestCase):
                 self.assertIsInstance(over, ast.Call, f'{name}:{node.lineno}')
                 self.assertIn(over.func.id, ('sorted', 'len'), f'{name}:{node.lineno}')
 
+    def test_ranges_and_the_like_are_iterated_at_once(self):
+        takers = ('list', 'tuple', 'dict', 'sorted', 'sum', 'any', 'all', 'enumerate', 'zip', 'min', 'max')
+        for name, _, tree in trees():
+            above = {child: node for node in ast.walk(tree) for child in ast.iter_child_nodes(node)}
+            for node in ast.walk(tree):
+                if not isinstance(node, ast.Call):
+                    continue
+                word = node.func.id if isinstance(node.func, ast.Name) else node.func.attr
+                if word not in ('range', 'zip', 'enumerate', 'reversed', 'items', 'keys', 'values'):
+                    continue
+                over = above[node]
+                if isinstance(over, (ast.For, ast.comprehension)):
+                    self.assertIs(over.iter, node, f'{name}:{node.lineno}')
+                else:
+                    self.assertIsInstance(over, ast.Call, f'{name}:{node.lineno}')
+                    self.assertIn(getattr(over.func, 'id', None), takers, f'{name}:{node.lineno}')
+
     def test_no_name_is_a_method_and_an_attribute(self):
         for name, _, tree in trees():
             for node in tree.body:
